@@ -1,0 +1,1 @@
+"""cellplaces: where a cell of a table lies, for all sizes."""

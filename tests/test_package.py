@@ -1,0 +1,114 @@
+"""The interface, and those rules of the language that are easily seen in the files of the package."""
+
+import ast
+import builtins
+import importlib
+import inspect
+import unittest
+from pathlib import Path
+
+FOLDER = Path(__file__).resolve().parent.parent / "cellplaces"
+FILES = sorted(FOLDER.rglob("*.py"))
+
+# The parameters of the functions, by modules.
+FUNCTIONS = {
+    "forms": {"letter": ["name"], "number": ["value"]},
+    "texts": {"read": ["text"], "write": ["form"]},
+}
+METHODS = {
+    "__add__": ["other"], "__sub__": ["other"], "__mul__": ["other"], "__neg__": [], "__eq__": ["other"],
+    "over": ["divisor"], "terms": [], "letters": [], "degree": [], "at": ["values"], "put": ["name", "other"],
+}
+BUILTINS = """len range enumerate zip min max sum abs sorted reversed int str bool bytes list tuple dict set frozenset
+    isinstance ord repr any all divmod pow getattr hasattr setattr map iter next super property staticmethod classmethod
+    Exception ValueError TypeError KeyError IndexError LookupError ZeroDivisionError ArithmeticError OverflowError
+    RuntimeError NotImplementedError AttributeError StopIteration NotImplemented object float""".split()
+LIBRARY = {"math": "gcd lcm isqrt comb perm factorial", "heapq": "heapify heappop heappush heappushpop heapreplace",
+           "itertools": "product combinations permutations chain accumulate pairwise islice zip_longest",
+           "collections": "defaultdict", "__future__": "annotations"}
+
+
+def tree_of(path):
+    return ast.parse(path.read_text(encoding="utf-8"))
+
+
+def nodes(kind):
+    return [(path.name, node) for path in FILES for node in ast.walk(tree_of(path)) if isinstance(node, kind)]
+
+
+class Interface(unittest.TestCase):
+
+    def test_functions(self):
+        for name, functions in FUNCTIONS.items():
+            module = importlib.import_module("cellplaces." + name)
+            for function, parameters in functions.items():
+                found = getattr(module, function)
+                self.assertEqual(found.__module__, module.__name__)
+                self.assertEqual(list(inspect.signature(found).parameters), parameters)
+
+    def test_methods_of_forms(self):
+        forms = importlib.import_module("cellplaces.forms")
+        own = vars(forms.letter("a").__class__)
+        for name, parameters in METHODS.items():
+            self.assertEqual(list(inspect.signature(own[name]).parameters)[1:], parameters, name)
+
+    def test_no_more_than_asked(self):
+        own = vars(importlib.import_module("cellplaces.forms").letter("a").__class__)
+        for name in ["__radd__", "__rsub__", "__rmul__", "__truediv__", "__pow__"]:
+            self.assertNotIn(name, own)
+
+
+class Language(unittest.TestCase):
+
+    def test_files(self):
+        for path in FOLDER.rglob("*"):
+            if path.name != "__pycache__" and path.parent.name != "__pycache__":
+                self.assertTrue(path.is_dir() or path.suffix == ".py", path)
+                self.assertEqual(path.name, path.name.lower())
+
+    def test_lines(self):
+        for path in FILES:
+            text = path.read_text(encoding="utf-8")
+            self.assertTrue(all(" " <= sign <= "~" or sign == "\n" for sign in text), path)
+            lines = text.splitlines()
+            self.assertLess(len(lines), 400, path)
+            self.assertLessEqual(max(map(len, lines)), 120, path)
+
+    def test_functions(self):
+        for name, node in nodes((ast.FunctionDef, ast.Lambda)):
+            self.assertLessEqual(node.end_lineno - node.lineno + 1, 40, (name, node.lineno))
+
+    def test_imports(self):
+        self.assertEqual(nodes(ast.Import), [])
+        for name, node in nodes(ast.ImportFrom):
+            self.assertEqual(node.level, 0)
+            for part in node.names:
+                self.assertIsNone(part.asname)
+                if node.module.startswith("cellplaces."):
+                    path = FOLDER / (node.module.split(".", 1)[1].replace(".", "/") + ".py")
+                    defined = [row.name for row in tree_of(path).body if hasattr(row, "name")]
+                    self.assertIn(part.name, defined, name)
+                else:
+                    self.assertIn(part.name, LIBRARY[node.module].split(), name)
+
+    def test_builtins(self):
+        for name, node in nodes(ast.Name):
+            if hasattr(builtins, node.id):
+                self.assertIn(node.id, BUILTINS, (name, node.lineno))
+                self.assertIsInstance(node.ctx, ast.Load, (name, node.lineno))
+        for name, node in nodes(ast.arg):
+            self.assertFalse(hasattr(builtins, node.arg), (name, node.lineno))
+
+    def test_values(self):
+        for name, node in nodes(ast.Constant):
+            self.assertNotIsInstance(node.value, (float, complex), (name, node.lineno))
+            if isinstance(node.value, str):
+                self.assertNotIn("%", node.value, (name, node.lineno))
+
+    def test_statements(self):
+        barred = (ast.Global, ast.AsyncFunctionDef, ast.AsyncFor, ast.AsyncWith, ast.Await, ast.Div)
+        self.assertEqual(nodes(barred), [])
+
+
+if __name__ == "__main__":
+    unittest.main()

@@ -6,6 +6,11 @@ def is_whole(value):
     return isinstance(value, int) and not isinstance(value, bool)
 
 
+def is_count(value):
+    """Tell whether an object is a count."""
+    return is_whole(value) and value >= 0
+
+
 def is_letter(name):
     """Tell whether an object is a letter."""
     if not isinstance(name, str) or not 1 <= len(name) <= 10:

@@ -84,11 +84,11 @@ class Form:
             raise InvalidForm(other)
         # From the highest power down: what cancels out does so before it grows.
         found = Form({})
-        for part in reversed(self._by_powers(name)):
+        for part in reversed(self.by_powers(name)):
             found = found * other + part
         return found
 
-    def _by_powers(self, name):
+    def by_powers(self, name):
         """The list of the forms that are multiplied by the powers 0, 1, .. of a letter."""
         highest = max([names.count(name) for names in self._parts], default=0)
         shares = [{} for _ in range(highest + 1)]

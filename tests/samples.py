@@ -1,6 +1,7 @@
 """Objects of all kinds, for arguments that have to be of one kind."""
 
 from cellplaces.forms import letter, number
+from cellplaces.shapes import Shape
 
 
 def nested(depth):
@@ -13,6 +14,7 @@ def nested(depth):
 
 def any_objects():
     """Objects of each kind that an argument may have."""
+    line = Shape([("i", number(0), letter("n"))])
     return [
         None, True, False, 0, 1, -1, 2, 10 ** 30, -10 ** 30,
         "", " ", "a", "abcdefghij", "abcdefghijk", "A", "a b", "a1", "1", "i+", "i_j",
@@ -20,6 +22,7 @@ def any_objects():
         (), ("a",), (1,), (1, 1, ["a"]),
         {}, {"a": 1}, {"i": 1, "j": 2}, {1: "a"}, {None: None}, {"a": [{}]},
         number(0), number(1), letter("a"), letter("a").over(2), [letter("a")],
+        line, [line, None], (line,), {"i": line}, ("i", number(0), letter("n")), [["i", number(0), letter("n")]],
     ]
 
 
@@ -29,6 +32,10 @@ def is_whole(value):
 
 def is_form(value):
     return value.__class__ is letter("a").__class__
+
+
+def is_shape(value):
+    return value.__class__ is Shape
 
 
 def is_letter(value):

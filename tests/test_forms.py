@@ -7,19 +7,9 @@ from math import gcd
 
 from cellplaces.forms import letter, number
 from samples import any_objects, is_form
+from tables import value_of
 
 NAMES = ["a", "b", "bb", "zzzzzzzzzz"]
-
-
-def value_of(form, values):
-    """The value of a form as a fraction, worked out from its terms."""
-    total = Fraction(0)
-    for top, bottom, names in form.terms():
-        part = Fraction(top, bottom)
-        for name in names:
-            part *= values[name]
-        total += part
-    return total
 
 
 def grown(rolls, depth):

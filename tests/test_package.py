@@ -14,7 +14,13 @@ FILES = sorted(FOLDER.rglob("*.py"))
 FUNCTIONS = {
     "forms": {"letter": ["name"], "number": ["value"]},
     "texts": {"read": ["text"], "write": ["form"]},
+    "shapes": {"shortage": ["loops"], "walk": ["shape", "values", "count"]},
+    "places": {"count": ["shape"], "place": ["shape"], "place_of": ["shape", "values", "cell"],
+               "cell_at": ["shape", "values", "place"], "next_cell": ["shape", "values", "cell"]},
+    "judged": {"differ": ["shape", "one", "other"], "wrong_at": ["shape", "formula"]},
+    "orders": {"same_cells": ["one", "other"], "laid": ["shapes"]},
 }
+SHAPE = {"__init__": ["loops"], "__eq__": ["other"], "__len__": [], "names": [], "loops": [], "sizes": []}
 METHODS = {
     "__add__": ["other"], "__sub__": ["other"], "__mul__": ["other"], "__neg__": [], "__eq__": ["other"],
     "over": ["divisor"], "terms": [], "letters": [], "degree": [], "at": ["values"], "put": ["name", "other"],
@@ -51,6 +57,12 @@ class Interface(unittest.TestCase):
         own = vars(forms.letter("a").__class__)
         for name, parameters in METHODS.items():
             self.assertEqual(list(inspect.signature(own[name]).parameters)[1:], parameters, name)
+
+    def test_methods_of_shapes(self):
+        module = importlib.import_module("cellplaces.shapes")
+        self.assertEqual(module.Shape.__module__, module.__name__)
+        for name, parameters in SHAPE.items():
+            self.assertEqual(list(inspect.signature(vars(module.Shape)[name]).parameters)[1:], parameters, name)
 
     def test_no_more_than_asked(self):
         own = vars(importlib.import_module("cellplaces.forms").letter("a").__class__)
@@ -98,6 +110,33 @@ class Language(unittest.TestCase):
                 self.assertIsInstance(node.ctx, ast.Load, (name, node.lineno))
         for name, node in nodes(ast.arg):
             self.assertFalse(hasattr(builtins, node.arg), (name, node.lineno))
+
+    def test_names_of_imports_and_classes(self):
+        for path in FILES:
+            tree = tree_of(path)
+            bound = [part.name for row in tree.body if isinstance(row, ast.ImportFrom) for part in row.names]
+            bound += [row.name for row in tree.body if hasattr(row, "name")]
+            self.assertEqual(len(bound), len(set(bound)), path)
+            own = [row.name for row in tree.body if isinstance(row, ast.FunctionDef)]
+            for node in ast.walk(tree):
+                if isinstance(node, ast.arg):
+                    self.assertNotIn(node.arg, set(bound) - set(own), (path.name, node.lineno))
+                if isinstance(node, ast.Name) and isinstance(node.ctx, ast.Store):
+                    self.assertNotIn(node.id, bound, (path.name, node.lineno))
+
+    def test_no_two_files_import_each_other(self):
+        left = {path.stem: [node.module.split(".")[1] for node in ast.walk(tree_of(path))
+                            if isinstance(node, ast.ImportFrom) and node.module.startswith("cellplaces.")]
+                for path in FILES}
+        while left:
+            free = [name for name, others in left.items() if not any(other in left for other in others)]
+            self.assertNotEqual(free, [], left)
+            left = {name: others for name, others in left.items() if name not in free}
+
+    def test_lists_beside_own_comparisons(self):
+        self.assertEqual(nodes(ast.GeneratorExp), [])
+        for name, node in nodes(ast.Attribute):
+            self.assertNotEqual(node.attr, "sort", (name, node.lineno))
 
     def test_values(self):
         for name, node in nodes(ast.Constant):

@@ -1,4 +1,6 @@
-"""What an argument is: tests that change nothing and raise nothing."""
+"""What an argument is: tests that change nothing."""
+
+from cellplaces.errors import InvalidValues
 
 
 def is_whole(value):
@@ -25,3 +27,9 @@ def is_values(values, names):
     if not all([is_letter(name) and is_whole(value) for name, value in values.items()]):
         return False
     return all([name in values for name in names])
+
+
+def check_values(values, sizes):
+    """Raise the error for an object that is no values for these size letters."""
+    if not is_values(values, sizes) or not all([values[name] >= 1 for name in sizes]):
+        raise InvalidValues(values)

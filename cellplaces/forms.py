@@ -112,6 +112,11 @@ def number(value):
     return Form(without_noughts({(): (value, 1)}))
 
 
+def product_form(names):
+    """The form that is the product of these letters."""
+    return Form({tuple(sorted(names)): (1, 1)})
+
+
 def right_side(other):
     """What stands on the right side of a sign, as a form."""
     if is_whole(other):

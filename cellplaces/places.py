@@ -2,10 +2,10 @@
 
 from math import comb
 
-from cellplaces.checks import is_count, is_whole
+from cellplaces.checks import check_values, is_count, is_whole
 from cellplaces.errors import InvalidCell, InvalidNumber
 from cellplaces.forms import letter, number
-from cellplaces.shapes import cell_behind, check_shape, check_values, loops_at, names_of, next_bounds, put_all
+from cellplaces.shapes import cell_behind, check_shape, loops_at, names_of, next_bounds, put_all
 
 
 def count(shape):
@@ -33,7 +33,7 @@ def place_of(shape, values, cell):
 def cell_at(shape, values, place):
     """The cell at this place."""
     check_shape(shape)
-    check_values(values, shape)
+    check_values(values, shape.sizes())
     loops = loops_at(shape, values)
     parts, cells = ahead_and_all(loops)
     if not is_count(place) or place >= cells.at({}):
@@ -57,7 +57,7 @@ def next_cell(shape, values, cell):
 def checked_loops(shape, values, cell):
     """The loops of a shape for these values, where the three arguments are what they have to be."""
     check_shape(shape)
-    check_values(values, shape)
+    check_values(values, shape.sizes())
     loops = loops_at(shape, values)
     if not is_cell(cell, loops):
         raise InvalidCell(cell)

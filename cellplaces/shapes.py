@@ -1,7 +1,7 @@
 """Shapes: tables that are walked by nested loops with straight bounds."""
 
-from cellplaces.checks import is_count, is_letter, is_values
-from cellplaces.errors import InvalidLoops, InvalidNumber, InvalidShape, InvalidValues, ShortLoop
+from cellplaces.checks import check_values, is_count, is_letter
+from cellplaces.errors import InvalidLoops, InvalidNumber, InvalidShape, ShortLoop
 from cellplaces.forms import Form, number
 
 
@@ -49,7 +49,7 @@ def shortage(loops):
 def walk(shape, values, count):
     """The list of the first cells of the walk, so many or all."""
     check_shape(shape)
-    check_values(values, shape)
+    check_values(values, shape.sizes())
     if not is_count(count):
         raise InvalidNumber(count)
     loops = loops_at(shape, values)
@@ -65,13 +65,6 @@ def check_shape(shape):
     """Raise the error for an object that is no shape."""
     if not isinstance(shape, Shape):
         raise InvalidShape(shape)
-
-
-def check_values(values, shape):
-    """Raise the error for an object that is no values for this shape."""
-    sizes = shape.sizes()
-    if not is_values(values, sizes) or not all([values[name] >= 1 for name in sizes]):
-        raise InvalidValues(values)
 
 
 def is_loops(loops):

@@ -1,6 +1,7 @@
 """Objects of all kinds, for arguments that have to be of one kind."""
 
 from cellplaces.forms import letter, number
+from cellplaces.plain import Plain
 from cellplaces.shapes import Shape
 
 
@@ -15,6 +16,7 @@ def nested(depth):
 def any_objects():
     """Objects of each kind that an argument may have."""
     line = Shape([("i", number(0), letter("n"))])
+    table = Plain([("i", ["n"], [])])
     return [
         None, True, False, 0, 1, -1, 2, 10 ** 30, -10 ** 30,
         "", " ", "a", "abcdefghij", "abcdefghijk", "A", "a b", "a1", "1", "i+", "i_j",
@@ -23,6 +25,7 @@ def any_objects():
         {}, {"a": 1}, {"i": 1, "j": 2}, {1: "a"}, {None: None}, {"a": [{}]},
         number(0), number(1), letter("a"), letter("a").over(2), [letter("a")],
         line, [line, None], (line,), {"i": line}, ("i", number(0), letter("n")), [["i", number(0), letter("n")]],
+        table, [table], (table,), {"i": table}, ("i", ["n"], []), [["i", ["n"], []]], [("i", ("n",), ())],
     ]
 
 
@@ -36,6 +39,10 @@ def is_form(value):
 
 def is_shape(value):
     return value.__class__ is Shape
+
+
+def is_table(value):
+    return value.__class__ is Plain
 
 
 def is_letter(value):

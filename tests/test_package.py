@@ -19,8 +19,17 @@ FUNCTIONS = {
                "cell_at": ["shape", "values", "place"], "next_cell": ["shape", "values", "cell"]},
     "judged": {"differ": ["shape", "one", "other"], "wrong_at": ["shape", "formula"]},
     "orders": {"same_cells": ["one", "other"], "laid": ["shapes"]},
+    "plain": {"own_order": ["table"], "clash": ["table"], "hole": ["table"], "cell_of": ["table", "values", "place"]},
+    "moves": {"jumps": ["table", "walk"], "smooth": ["table"], "kept": ["table", "size"], "arranged": ["sides", "size"],
+              "joined": ["table", "walk"], "same_run": ["table", "walk", "other", "route"]},
+    "rings": {"turned": ["rows", "columns", "place", "times"], "ring_length": ["rows", "columns", "place"],
+              "rings": ["rows", "columns"]},
 }
 SHAPE = {"__init__": ["loops"], "__eq__": ["other"], "__len__": [], "names": [], "loops": [], "sizes": []}
+PLAIN = {"__init__": ["sides"], "__eq__": ["other"], "__len__": [], "sides": [], "sizes": [], "formula": []}
+STORE = {"__init__": ["table", "values"], "__len__": [], "lay": ["cell", "item"], "look": ["cell"], "take": ["cell"],
+         "sizes": [], "held": [], "grow": ["size"], "limit": ["room"], "undo": [], "trial": [], "attempt": ["action"],
+         "copy": []}
 METHODS = {
     "__add__": ["other"], "__sub__": ["other"], "__mul__": ["other"], "__neg__": [], "__eq__": ["other"],
     "over": ["divisor"], "terms": [], "letters": [], "degree": [], "at": ["values"], "put": ["name", "other"],
@@ -58,11 +67,22 @@ class Interface(unittest.TestCase):
         for name, parameters in METHODS.items():
             self.assertEqual(list(inspect.signature(own[name]).parameters)[1:], parameters, name)
 
-    def test_methods_of_shapes(self):
-        module = importlib.import_module("cellplaces.shapes")
-        self.assertEqual(module.Shape.__module__, module.__name__)
-        for name, parameters in SHAPE.items():
-            self.assertEqual(list(inspect.signature(vars(module.Shape)[name]).parameters)[1:], parameters, name)
+    def test_methods_of_classes(self):
+        for file, name, methods in [("shapes", "Shape", SHAPE), ("plain", "Plain", PLAIN), ("live", "Store", STORE)]:
+            module = importlib.import_module("cellplaces." + file)
+            own = getattr(module, name)
+            self.assertEqual(own.__module__, module.__name__)
+            for method, parameters in methods.items():
+                self.assertEqual(list(inspect.signature(vars(own)[method]).parameters)[1:], parameters, method)
+
+    def test_room_is_a_property(self):
+        room = vars(importlib.import_module("cellplaces.live").Store)["room"]
+        self.assertIsInstance(room, property)
+        self.assertIsNotNone(room.fset)
+
+    def test_times_may_be_left_out(self):
+        turned = importlib.import_module("cellplaces.rings").turned
+        self.assertEqual(inspect.signature(turned).parameters["times"].default, 1)
 
     def test_no_more_than_asked(self):
         own = vars(importlib.import_module("cellplaces.forms").letter("a").__class__)

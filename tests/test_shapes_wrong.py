@@ -12,25 +12,13 @@ from cellplaces.shapes import Shape, shortage, walk
 from cellplaces.texts import read
 from samples import any_objects, is_form, is_letter, is_shape, is_whole
 from tables import loops_of, shape_of
+from wrong import Check
 
 HALF = shape_of(("i", "0", "n"), ("j", "0", "i + 1"))
 FIXED = shape_of(("i", "0", "3"))
 WRONG_VALUES = [{}, {"m": 3}, {"n": 0}, {"n": -1}, {"n": True}, {"n": None}, {"n": "3"}, {"n": [3]}, {"n": letter("n")},
                 {"n": 3, "m": None}, {"n": 3, "m": True}, {"n": 3, "": 1}, {"n": 3, "M": 1}, {"n": 3, 1: 1},
                 {"n": 3, ("m",): 1}, {"n": 3, "abcdefghijk": 1}, {"n": 3, None: 1}, [("n", 3)], ("n", 3), [{"n": 3}]]
-
-
-class Check(unittest.TestCase):
-
-    def check(self, error, wrong, work):
-        """The work raises just this error, with just this object, which stays what it is."""
-        with self.subTest(wrong=wrong):
-            before = repr(wrong)
-            with self.assertRaises(error) as caught:
-                work(wrong)
-            self.assertIs(caught.exception.__class__, error)
-            self.assertIs(caught.exception.value, wrong)
-            self.assertEqual(repr(wrong), before)
 
 
 class Loops(Check):

@@ -38,6 +38,9 @@ BUILTINS = """len range enumerate zip min max sum abs sorted reversed int str bo
     isinstance ord repr any all divmod pow getattr hasattr setattr map iter next super property staticmethod classmethod
     Exception ValueError TypeError KeyError IndexError LookupError ZeroDivisionError ArithmeticError OverflowError
     RuntimeError NotImplementedError AttributeError StopIteration NotImplemented object float""".split()
+OF_BUILTINS = """append clear copy count endswith extend find get index insert isalnum isalpha isdigit islower isspace
+    isupper items join keys ljust lower lstrip partition pop remove replace reverse rfind rjust rpartition rsplit rstrip
+    setdefault split splitlines startswith strip update upper values zfill bit_length""".split()
 LIBRARY = {"math": "gcd lcm isqrt comb perm factorial", "heapq": "heapify heappop heappush heappushpop heapreplace",
            "itertools": "product combinations permutations chain accumulate pairwise islice zip_longest",
            "collections": "defaultdict", "__future__": "annotations"}
@@ -130,6 +133,22 @@ class Language(unittest.TestCase):
                 self.assertIsInstance(node.ctx, ast.Load, (name, node.lineno))
         for name, node in nodes(ast.arg):
             self.assertFalse(hasattr(builtins, node.arg), (name, node.lineno))
+
+    def test_methods(self):
+        own = [node.name for _, node in nodes(ast.FunctionDef)]
+        for name, node in nodes(ast.Call):
+            if isinstance(node.func, ast.Attribute):
+                self.assertIn(node.func.attr, OF_BUILTINS + own, (name, node.lineno))
+                if node.func.attr in OF_BUILTINS:
+                    self.assertEqual(node.keywords, [], (name, node.lineno))
+
+    def test_attributes(self):
+        # An attribute is no method of its own class and of no builtin value.
+        for name, node in nodes(ast.ClassDef):
+            methods = [row.name for row in node.body if isinstance(row, ast.FunctionDef)]
+            for part in ast.walk(node):
+                if isinstance(part, ast.Attribute) and isinstance(part.ctx, ast.Store):
+                    self.assertNotIn(part.attr, methods + OF_BUILTINS, (name, part.lineno))
 
     def test_names_of_imports_and_classes(self):
         for path in FILES:
